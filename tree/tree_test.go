@@ -25,57 +25,6 @@ func sample() api.Tree {
 	)
 }
 
-// wrongTrees is trees that each break one rule of the form.
-func wrongTrees() map[string]api.Tree {
-	f := file("f")
-	l := map[string]api.Tree{
-		"no kind":                     {},
-		"no kind, but data":           {Data: []byte("x")},
-		"kind 4":                      {Kind: 4},
-		"kind 255":                    {Kind: 255},
-		"a file with names":           {Kind: api.File, Names: []string{"a"}},
-		"a file with kids":            {Kind: api.File, Kids: []api.Tree{f}},
-		"a file with both":            {Kind: api.File, Names: []string{"a"}, Kids: []api.Tree{f}},
-		"a link to be executed":       {Kind: api.Link, Exec: true, Data: []byte("x")},
-		"a link with names":           {Kind: api.Link, Data: []byte("x"), Names: []string{"a"}},
-		"a link with kids":            {Kind: api.Link, Data: []byte("x"), Kids: []api.Tree{f}},
-		"a link to nothing":           link(""),
-		"a link with 00":              link("a\x00b"),
-		"a link with 00 at its end":   link("a\x00"),
-		"a link with 00 ahead":        link("\x00a"),
-		"a link of 401 bytes":         link(strings.Repeat("t", api.MaxPath+1)),
-		"a directory to be executed":  {Kind: api.Dir, Exec: true},
-		"a directory with data":       {Kind: api.Dir, Data: []byte("x")},
-		"more names than kids":        {Kind: api.Dir, Names: []string{"a", "b"}, Kids: []api.Tree{f}},
-		"names without kids":          {Kind: api.Dir, Names: []string{"a"}},
-		"more kids than names":        {Kind: api.Dir, Names: []string{"a"}, Kids: []api.Tree{f, f}},
-		"kids without names":          {Kind: api.Dir, Kids: []api.Tree{f}},
-		"names that fall":             dir("b", f, "a", f),
-		"names that fall, behind one": dir("a", f, "c", f, "b", f),
-		"a name twice":                dir("a", f, "a", f),
-		"names by letters, not bytes": dir("a", f, "B", f),
-		"a name of 81 bytes":          dir(strings.Repeat("n", api.MaxEntry+1), f),
-		"no name":                     dir("", f),
-		"the name .":                  dir(".", f),
-		"the name ..":                 dir("..", f),
-		"a name with /":               dir("a/b", f),
-		"a name with 00":              dir("a\x00", f),
-		"a wrong last name":           dir("a", f, "b/", f),
-		"too deep, a file":            deep(api.MaxDepth+1, f),
-		"too deep, a directory":       deep(api.MaxDepth+1, dir()),
-		"too many":                    wide(api.MaxNodes),
-		"far too many":                wide(3 * api.MaxNodes),
-		"too many, in two":            dir("a", wide(api.MaxNodes/2-1), "b", wide(api.MaxNodes/2-1)),
-		"too much in one":             file(strings.Repeat("x", api.MaxData+1)),
-		"too much in two":             dir("a", file(strings.Repeat("x", api.MaxData-3)), "b", file("four")),
-		"too much, by a link":         dir("a", file(strings.Repeat("x", api.MaxData)), "b", link("y")),
-	}
-	for name, t := range l {
-		l[name+", inside"] = dir("a", dir("p", f, "q", t), "b", f)
-	}
-	return l
-}
-
 func TestP3_1_Name(t *testing.T) {
 	for b := range 256 {
 		s := string([]byte{byte(b)})
@@ -212,7 +161,7 @@ func TestP3_1_Limits(t *testing.T) {
 }
 
 func TestP3_1_WrongTrees(t *testing.T) {
-	for name, x := range wrongTrees() {
+	for name, x := range samples.Wrong() {
 		if tree.Form(x) {
 			t.Errorf("%s: it has the form", name)
 		}
@@ -273,7 +222,7 @@ func TestP3_1_SameAndCopy(t *testing.T) {
 	for range 100 {
 		trees = append(trees, d.Tree(4))
 	}
-	for _, x := range wrongTrees() {
+	for _, x := range samples.Wrong() {
 		trees = append(trees, x)
 	}
 	for i, x := range trees {
@@ -436,7 +385,7 @@ func TestP3_2_PathsAndAt(t *testing.T) {
 }
 
 func TestP1_WrongTreesEnd(t *testing.T) {
-	for name, x := range wrongTrees() {
+	for name, x := range samples.Wrong() {
 		if l := tree.Paths(x); len(l) != 0 {
 			t.Errorf("%s: Paths = %d", name, len(l))
 		}
@@ -480,53 +429,8 @@ func TestP1_TreesWithoutBottom(t *testing.T) {
 	}
 }
 
-// roomy is the same tree with spare room, and something in it, behind each of its lists.
-func roomy(t api.Tree) api.Tree {
-	data := append(bytes.Clone(t.Data), "spare"...)
-	names := append(slices.Clone(t.Names), "spare", "room")
-	kids := append(slices.Clone(t.Kids), file("spare"))
-	for i := range t.Kids {
-		kids[i] = roomy(t.Kids[i])
-	}
-	t.Data, t.Names, t.Kids = data[:len(t.Data)], names[:len(t.Names)], kids[:len(t.Kids)]
-	return t
-}
-
-// spoil writes over all of a tree's lists, and over their spare room.
-func spoil(t api.Tree) {
-	for _, kid := range t.Kids {
-		spoil(kid)
-	}
-	for i := range t.Data[:cap(t.Data)] {
-		t.Data[:cap(t.Data)][i] = '#'
-	}
-	for i := range t.Names[:cap(t.Names)] {
-		t.Names[:cap(t.Names)][i] = "#"
-	}
-	for i := range t.Kids[:cap(t.Kids)] {
-		t.Kids[:cap(t.Kids)][i] = link("#")
-	}
-}
-
-// intact: is a tree that roomy made still as it was, its spare room too?
-func intact(t, was api.Tree) bool {
-	if !tree.Same(t, was) {
-		return false
-	}
-	d, n, k := t.Data, t.Names, t.Kids
-	if string(d[len(d):len(d)+5]) != "spare" || !slices.Equal(n[len(n):len(n)+2], []string{"spare", "room"}) || !tree.Same(k[:len(k)+1][len(k)], file("spare")) {
-		return false
-	}
-	for i := range t.Kids {
-		if !intact(t.Kids[i], was.Kids[i]) {
-			return false
-		}
-	}
-	return true
-}
-
 func TestP2_AnswersAreNewMemory(t *testing.T) {
-	x := roomy(sample())
+	x := samples.Roomy(sample())
 	tree.Form(x)
 	tree.Size(x)
 	tree.Same(x, x)
@@ -534,20 +438,20 @@ func TestP2_AnswersAreNewMemory(t *testing.T) {
 		if y := tree.Copy(x); !tree.Same(y, sample()) {
 			t.Errorf("Copy = %v", y)
 		} else {
-			spoil(y)
+			samples.Spoil(y)
 		}
 		for _, path := range []string{"", "a", "a/c", "a/b", "a/c/d", "a/c/e", "z"} {
 			want, _ := tree.At(sample(), path)
 			if y, e := tree.At(x, path); e != api.OK || !tree.Same(y, want) {
 				t.Errorf("At(%q) = %v, %d", path, y, e)
 			} else {
-				spoil(y)
+				samples.Spoil(y)
 			}
 		}
 		for _, l := range [][]string{tree.Paths(x), first(tree.Split("a/b"))} {
 			clear(l[:cap(l)])
 		}
-		if !intact(x, sample()) {
+		if !samples.Intact(x, sample()) {
 			t.Fatal("what was handed in has changed, or its spare room, or an answer shares memory with it")
 		}
 	}
@@ -568,7 +472,7 @@ func TestP2_ListsOfOneAnswer(t *testing.T) {
 	x := dir("a", common, "b", common)
 	at, _ := tree.At(dir("x", x), "x")
 	for _, y := range []api.Tree{tree.Copy(x), at} {
-		spoil(y.Kids[0])
+		samples.Spoil(y.Kids[0])
 		if !tree.Same(y.Kids[1], common) {
 			t.Errorf("two lists of one answer share memory: %v", y.Kids[1])
 		}
@@ -584,7 +488,7 @@ func TestP2_BehindTheCall(t *testing.T) {
 	y := tree.Copy(x)
 	at, _ := tree.At(x, "a/c")
 	paths := tree.Paths(x)
-	spoil(x)
+	samples.Spoil(x)
 	if !tree.Same(y, sample()) || !tree.Same(at, sample().Kids[0].Kids[1]) || !slices.Equal(paths, tree.Paths(sample())) {
 		t.Error("an answer has kept what was handed in")
 	}
