@@ -128,19 +128,19 @@ func TestP11_1_Literals(t *testing.T) {
 	gives(t, "{a}: a", "<fn>", 2)
 	gives(t, "map", "<fn>", 2)
 	gives(t, "map 1", "<fn>", 3)
-	gives(t, "[]", "[ ]", 2)
-	gives(t, "{}", "{ }", 2)
-	gives(t, "rec {}", "{ }", 2)
+	gives(t, "[]", "[]", 2)
+	gives(t, "{}", "{}", 2)
+	gives(t, "rec {}", "{}", 2)
 }
 
 func TestP11_1_Shown(t *testing.T) {
-	gives(t, "[1 2]", "[ 1 2 ]", 6)
-	gives(t, "[[] {} (x: x) null true]", "[ [ ] { } <fn> null true ]", 12)
-	gives(t, "{b = 2; a = 1;}", "{ a = 1; b = 2; }", 6)
-	gives(t, "{a = {b = [1];};}", "{ a = { b = [ 1 ]; }; }", 8)
-	gives(t, "{b = 1; a-b = 2; a' = 3; B = 4; _ = 5; ab = 6; a = 7;}", "{ B = 4; _ = 5; a = 7; a' = 3; a-b = 2; ab = 6; b = 1; }", 16)
+	gives(t, "[1 2]", "[1 2]", 6)
+	gives(t, "[[] {} (x: x) null true]", "[[] {} <fn> null true]", 12)
+	gives(t, "{b = 2; a = 1;}", "{a = 1; b = 2;}", 6)
+	gives(t, "{a = {b = [1];};}", "{a = {b = [1];};}", 8)
+	gives(t, "{b = 1; a-b = 2; a' = 3; B = 4; _ = 5; ab = 6; a = 7;}", "{B = 4; _ = 5; a = 7; a' = 3; a-b = 2; ab = 6; b = 1;}", 16)
 	gives(t, "-1", "-1", 3)
-	gives(t, "[(-1)]", "[ -1 ]", 5)
+	gives(t, "[(-1)]", "[-1]", 5)
 	gives(t, `"\\\"\n\t\$"`, `"\\\"\n\t\$"`, 2)
 	gives(t, "\"$ $$ \n\t' / \r\x00\x7f\xff\xc3\xa9\"", "\"\\$ \\$\\$ \\n\\t' / \r\x00\x7f\xff\xc3\xa9\"", 2)
 	gives(t, `"\${"`, `"\${"`, 2)
@@ -148,7 +148,12 @@ func TestP11_1_Shown(t *testing.T) {
 	stops(t, `[1 (throw "x") (1 + true)]`, 7, api.ErrThrow)
 	stops(t, `{b = throw "x"; a = 1; c = 1 + true;}`, 7, api.ErrThrow)
 	// A part is found once.
-	gives(t, "let x = 1 + 1; in [x x]", "[ 2 2 ]", 10)
+	gives(t, "let x = 1 + 1; in [x x]", "[2 2]", 10)
+	// Blanks stand between parts alone, however many there are and whatever they are.
+	gives(t, "[[] [1 [2]] {} {a = []; b = {c = [3 4];};}]", "[[] [1 [2]] {} {a = []; b = {c = [3 4];};}]", 26)
+	gives(t, "{l = [{} {}]; s = {};}", "{l = [{} {}]; s = {};}", 10)
+	gives(t, "let a = 1; b = a + 1; in [a b (a + b)]", "[1 2 3]", 15)
+	gives(t, "({a, b ? a + 1, ...}: [a b]) {a = 1; c = 3;}", "[1 2]", 13)
 }
 
 // TestP11_1_EveryByte: each byte of a text stands for itself where it is shown, but five of them.
@@ -167,7 +172,7 @@ func TestP11_1_EveryByte(t *testing.T) {
 			want = `\$`
 		}
 		gives(t, `"`+in+`x`+in+`"`, `"`+want+`x`+want+`"`, 2)
-		gives(t, `{a = "`+in+`";}`, `{ a = "`+want+`"; }`, 4)
+		gives(t, `{a = "`+in+`";}`, `{a = "`+want+`";}`, 4)
 	}
 }
 
@@ -250,7 +255,7 @@ func TestP11_1_With(t *testing.T) {
 	gives(t, "with 5; 1", "1", 3)
 	gives(t, `with throw "x"; true`, "true", 3)
 	gives(t, "with {true = 1;}; true", "true", 3)
-	gives(t, "with {map = 1; toString = 2;}; [map toString]", "[ <fn> <fn> ]", 7)
+	gives(t, "with {map = 1; toString = 2;}; [map toString]", "[<fn> <fn>]", 7)
 	gives(t, "let a = 1; in with {a = 2;}; a", "1", 5)
 	gives(t, "with {a = 1;}; let a = 2; in a", "2", 5)
 	gives(t, "with {a = 1;}; with {b = 2;}; a", "1", 7)
@@ -274,7 +279,7 @@ func TestP11_1_Sets(t *testing.T) {
 	gives(t, "{a = 1;}.a", "1", 4)
 	gives(t, "let a = 1; in {a = 2; b = a;}.b", "1", 6)
 	gives(t, "rec {a = 1; b = a;}.b", "1", 5)
-	gives(t, "rec {a = b; b = 1;}", "{ a = 1; b = 1; }", 6)
+	gives(t, "rec {a = b; b = 1;}", "{a = 1; b = 1;}", 6)
 	gives(t, `{a = throw "x"; b = 1;}.b`, "1", 4)
 	gives(t, "{}.a or 7", "7", 4)
 	gives(t, "{a = 1;}.a or 7", "1", 4)
@@ -283,7 +288,7 @@ func TestP11_1_Sets(t *testing.T) {
 	gives(t, "{a = {b = {c = 1;};};}.a.b.c", "1", 8)
 	gives(t, "{a = 1;}.b or {a = 2;}.a or 3", "2", 6)
 	// A part is found once, whoever needs it.
-	gives(t, "let s = {a = 1 + 1;}; in [s.a s.a s]", "[ 2 2 { a = 2; } ]", 16)
+	gives(t, "let s = {a = 1 + 1;}; in [s.a s.a s]", "[2 2 {a = 2;}]", 16)
 	stops(t, "{}.a", 2, api.ErrNone)
 	stops(t, "{b = 1;}.a", 2, api.ErrNone)
 	stops(t, "{}.a.b or 1", 3, api.ErrNone)
@@ -302,9 +307,9 @@ func TestP11_1_Inherit(t *testing.T) {
 	gives(t, "with {x = 1;}; let inherit x; in with {x = 2;}; x", "1", 8)
 	gives(t, "rec {inherit (s) a; s = {a = 1;};}.a", "1", 7)
 	gives(t, "let inherit (s) a; s = {a = 1;}; in a", "1", 7)
-	gives(t, "{inherit ({a = 1; b = 2;}) b a;}", "{ a = 1; b = 2; }", 10)
+	gives(t, "{inherit ({a = 1; b = 2;}) b a;}", "{a = 1; b = 2;}", 10)
 	gives(t, "{inherit (throw \"x\") a; b = 1;}.b", "1", 4)
-	gives(t, "{inherit;}", "{ }", 2)
+	gives(t, "{inherit;}", "{}", 2)
 	gives(t, "{inherit true;}.true", "true", 4)
 	stops(t, "{inherit (s) a; s = {a = 1;};}.a", 4, api.ErrName)
 	stops(t, "let inherit x; in x", 3, api.ErrName)
@@ -498,17 +503,17 @@ func TestP11_1_OpKinds(t *testing.T) {
 }
 
 func TestP11_1_SetsAndListsTogether(t *testing.T) {
-	gives(t, "{a = 1; b = 2;} // {b = 3; c = 4;}", "{ a = 1; b = 3; c = 4; }", 10)
-	gives(t, "{} // {}", "{ }", 4)
-	gives(t, "{a = 1;} // {}", "{ a = 1; }", 6)
-	gives(t, "{} // {a = 1;}", "{ a = 1; }", 6)
-	gives(t, "{a = 1;} // {a = 2;} // {a = 3;}", "{ a = 3; }", 8)
+	gives(t, "{a = 1; b = 2;} // {b = 3; c = 4;}", "{a = 1; b = 3; c = 4;}", 10)
+	gives(t, "{} // {}", "{}", 4)
+	gives(t, "{a = 1;} // {}", "{a = 1;}", 6)
+	gives(t, "{} // {a = 1;}", "{a = 1;}", 6)
+	gives(t, "{a = 1;} // {a = 2;} // {a = 3;}", "{a = 3;}", 8)
 	gives(t, `({a = throw "x";} // {a = 1;}).a`, "1", 6)
-	gives(t, `let a = {x = 1;}; b = a // {x = 2;}; in [a b]`, "[ { x = 1; } { x = 2; } ]", 15)
-	gives(t, "[1] ++ [2 3]", "[ 1 2 3 ]", 10)
-	gives(t, "[] ++ []", "[ ]", 4)
+	gives(t, `let a = {x = 1;}; b = a // {x = 2;}; in [a b]`, "[{x = 1;} {x = 2;}]", 15)
+	gives(t, "[1] ++ [2 3]", "[1 2 3]", 10)
+	gives(t, "[] ++ []", "[]", 4)
 	gives(t, `length ([(throw "x")] ++ [(throw "y")])`, "2", 6)
-	gives(t, "let l = [(1 + 1)]; in l ++ l", "[ 2 2 ]", 11)
+	gives(t, "let l = [(1 + 1)]; in l ++ l", "[2 2]", 11)
 }
 
 func TestP11_1_Like(t *testing.T) {

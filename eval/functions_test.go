@@ -36,21 +36,21 @@ func TestP11_1_ToString(t *testing.T) {
 }
 
 func TestP11_1_Map(t *testing.T) {
-	gives(t, "map (x: x + 1) [1 2 3]", "[ 2 3 4 ]", 24)
-	gives(t, `map (throw "x") []`, "[ ]", 5)
+	gives(t, "map (x: x + 1) [1 2 3]", "[2 3 4]", 24)
+	gives(t, `map (throw "x") []`, "[]", 5)
 	gives(t, `length (map (throw "x") [1 2])`, "2", 9)
 	gives(t, `length (map 5 [1 2])`, "2", 9)
 	gives(t, `length (map (x: x) [(throw "x")])`, "1", 8)
-	gives(t, `map (x: 1) [(throw "x")]`, "[ 1 ]", 9)
+	gives(t, `map (x: 1) [(throw "x")]`, "[1]", 9)
 	gives(t, "elemAt (map (x: x) [(throw \"x\") 2]) 1", "2", 14)
-	gives(t, "let l = map (x: x + 1) [1]; in [(elemAt l 0) (elemAt l 0)]", "[ 2 2 ]", 25)
-	gives(t, "map (map (x: x)) [[1] [2 3]]", "[ [ 1 ] [ 2 3 ] ]", 26)
-	gives(t, "map isList [1 []]", "[ false true ]", 12)
-	gives(t, "map length [[1] []]", "[ 1 0 ]", 12)
-	gives(t, "map (elemAt [5 6]) [1 0]", "[ 6 5 ]", 16)
-	gives(t, "map ({a}: a) [{a = 1;}]", "[ 1 ]", 11)
-	gives(t, "map toString [1]", `[ "1" ]`, 10)
-	gives(t, "map attrNames [{a = 1;}]", `[ [ "a" ] ]`, 10)
+	gives(t, "let l = map (x: x + 1) [1]; in [(elemAt l 0) (elemAt l 0)]", "[2 2]", 25)
+	gives(t, "map (map (x: x)) [[1] [2 3]]", "[[1] [2 3]]", 26)
+	gives(t, "map isList [1 []]", "[false true]", 12)
+	gives(t, "map length [[1] []]", "[1 0]", 12)
+	gives(t, "map (elemAt [5 6]) [1 0]", "[6 5]", 16)
+	gives(t, "map ({a}: a) [{a = 1;}]", "[1]", 11)
+	gives(t, "map toString [1]", `["1"]`, 10)
+	gives(t, "map attrNames [{a = 1;}]", `[["a"]]`, 10)
 	gives(t, "map throw", "<fn>", 3)
 	stops(t, "map (x: x) 1", 4, api.ErrKind)
 	stops(t, `map (throw "x") 1`, 4, api.ErrKind)
@@ -97,9 +97,9 @@ func TestP11_1_Lists(t *testing.T) {
 }
 
 func TestP11_1_AttrNames(t *testing.T) {
-	gives(t, "attrNames {}", "[ ]", 4)
-	gives(t, `attrNames {b = throw "x"; a = 1; a-b = 1; B = 1; _ = 1; a' = 2;}`, `[ "B" "_" "a" "a'" "a-b" "b" ]`, 10)
-	gives(t, "attrNames ({b = 1;} // {a = 1; b = 2;})", `[ "a" "b" ]`, 8)
+	gives(t, "attrNames {}", "[]", 4)
+	gives(t, `attrNames {b = throw "x"; a = 1; a-b = 1; B = 1; _ = 1; a' = 2;}`, `["B" "_" "a" "a'" "a-b" "b"]`, 10)
+	gives(t, "attrNames ({b = 1;} // {a = 1; b = 2;})", `["a" "b"]`, 8)
 	gives(t, `length (attrNames {a = 1; b = 1;})`, "2", 6)
 	for _, s := range []string{"1", `"a"`, "true", "null", "[]", "(x: x)"} {
 		stops(t, "attrNames "+s, 3, api.ErrKind)
@@ -132,7 +132,7 @@ func TestP11_1_StorePath(t *testing.T) {
 // TestP11_1_MoreArguments: what has all its arguments is a function no more, and what lacks some is one.
 func TestP11_1_MoreArguments(t *testing.T) {
 	gives(t, `let f = elemAt [(throw "x") 5]; in f 1 + f 1`, "10", 13)
-	gives(t, "let f = map (x: x); in [(f [1]) (f [2])]", "[ [ 1 ] [ 2 ] ]", 22)
+	gives(t, "let f = map (x: x); in [(f [1]) (f [2])]", "[[1] [2]]", 22)
 	fails(t, "isList [] 1", 99, api.ErrKind)
 	fails(t, "toString 1 1", 99, api.ErrKind)
 	fails(t, "elemAt [1] 0 0", 99, api.ErrKind)

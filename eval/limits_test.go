@@ -71,7 +71,7 @@ func TestP11_1_NestedAtMaxCalls(t *testing.T) {
 	fits(false, api.MaxCalls-2, "x==x", "")
 	fits(true, api.MaxCalls-3, "toString x", `""`)
 	fits(false, api.MaxCalls-2, "toString x", "")
-	fits(true, api.MaxCalls, "x", strings.Repeat("[ ", api.MaxCalls)+"]"+strings.Repeat(" ]", api.MaxCalls-1))
+	fits(true, api.MaxCalls, "x", strings.Repeat("[", api.MaxCalls)+strings.Repeat("]", api.MaxCalls))
 	fits(false, api.MaxCalls+1, "x", "")
 }
 
@@ -83,7 +83,7 @@ func TestP11_1_NothingElseWaits(t *testing.T) {
 		s += "a" + strconv.Itoa(i+1) + "=m a" + strconv.Itoa(i) + ";"
 		l = append(l, "a"+strconv.Itoa(i))
 	}
-	shows(t, s+"in if toString (map length ["+strings.Join(l, " ")+`]) == "" then 0 else a300`, "[ false ]")
+	shows(t, s+"in if toString (map length ["+strings.Join(l, " ")+`]) == "" then 0 else a300`, "[false]")
 }
 
 // text is a let of texts: t has n bytes.
@@ -128,22 +128,22 @@ func TestP11_1_MaxStringShown(t *testing.T) {
 	x := func(n int) string { return strings.Repeat("x", n) }
 	shows(t, text(api.MaxString-2)+"t", `"`+x(api.MaxString-2)+`"`)
 	fails(t, text(api.MaxString-1)+"t", api.MaxFuel, api.ErrLong)
-	shows(t, text(api.MaxString-6)+"[t]", `[ "`+x(api.MaxString-6)+`" ]`)
-	fails(t, text(api.MaxString-5)+"[t]", api.MaxFuel, api.ErrLong)
-	shows(t, text(api.MaxString-11)+"{a = t;}", `{ a = "`+x(api.MaxString-11)+`"; }`)
-	fails(t, text(api.MaxString-10)+"{a = t;}", api.MaxFuel, api.ErrLong)
-	half := api.MaxString/2 - 6
-	shows(t, text(half)+`[t t ""]`, `[ "`+x(half)+`" "`+x(half)+`" "" ]`)
+	shows(t, text(api.MaxString-4)+"[t]", `["`+x(api.MaxString-4)+`"]`)
+	fails(t, text(api.MaxString-3)+"[t]", api.MaxFuel, api.ErrLong)
+	shows(t, text(api.MaxString-9)+"{a = t;}", `{a = "`+x(api.MaxString-9)+`";}`)
+	fails(t, text(api.MaxString-8)+"{a = t;}", api.MaxFuel, api.ErrLong)
+	half := api.MaxString/2 - 5
+	shows(t, text(half)+`[t t ""]`, `["`+x(half)+`" "`+x(half)+`" ""]`)
 	fails(t, text(half+1)+`[t t ""]`, api.MaxFuel, api.ErrLong)
 	// It is asked behind each value, of all that is told by then: what follows is needed as long as that fits.
 	fails(t, text(half+2)+`[t t (throw "x")]`, api.MaxFuel, api.ErrThrow)
 	fails(t, text(half+3)+`[t t (throw "x")]`, api.MaxFuel, api.ErrLong)
 	fails(t, text(api.MaxString)+`[t (throw "x")]`, api.MaxFuel, api.ErrLong)
-	fails(t, text(api.MaxString-4)+`[t (throw "x")]`, api.MaxFuel, api.ErrThrow)
-	fails(t, text(api.MaxString-3)+`[t (throw "x")]`, api.MaxFuel, api.ErrLong)
+	fails(t, text(api.MaxString-3)+`[t (throw "x")]`, api.MaxFuel, api.ErrThrow)
+	fails(t, text(api.MaxString-2)+`[t (throw "x")]`, api.MaxFuel, api.ErrLong)
 	fails(t, text(api.MaxString-4)+`{a = t; b = throw "x";}`, api.MaxFuel, api.ErrLong)
-	fails(t, text(api.MaxString-8)+`{a = t; b = throw "x";}`, api.MaxFuel, api.ErrThrow)
-	fails(t, text(api.MaxString-7)+`{a = t; b = throw "x";}`, api.MaxFuel, api.ErrLong)
+	fails(t, text(api.MaxString-7)+`{a = t; b = throw "x";}`, api.MaxFuel, api.ErrThrow)
+	fails(t, text(api.MaxString-6)+`{a = t; b = throw "x";}`, api.MaxFuel, api.ErrLong)
 	// What stands behind a \ counts twice.
 	shows(t, strings.ReplaceAll(text(api.MaxString/2-1), "x", `\n`)+"t", `"`+strings.Repeat(`\n`, api.MaxString/2-1)+`"`)
 	fails(t, strings.ReplaceAll(text(api.MaxString/2), "x", `\n`)+"t", api.MaxFuel, api.ErrLong)
@@ -167,7 +167,7 @@ func TestP11_1_MaxItems(t *testing.T) {
 	shows(t, list(api.MaxItems)+"elemAt (map (x: x + 1) l) 4095", "2")
 	fails(t, list(api.MaxItems)+"elemAt l 4096", api.MaxFuel, api.ErrNone)
 	shows(t, list(api.MaxItems)+"l == l", "true")
-	shows(t, list(api.MaxItems)+"l", "[ "+strings.Repeat("1 ", api.MaxItems)+"]")
+	shows(t, list(api.MaxItems)+"l", "["+strings.Repeat("1 ", api.MaxItems-1)+"1]")
 	shows(t, list(api.MaxItems)+"toString l", `"`+strings.Repeat("1 ", api.MaxItems-1)+`1"`)
 }
 

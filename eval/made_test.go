@@ -48,13 +48,13 @@ func makes(t *testing.T, s string, want ...eval.Made) {
 
 // told is how a derivation's set is shown.
 func told(m eval.Made) string {
-	return `{ drvPath = "` + m.Path + `"; name = "` + m.Drv.Name + `"; outPath = "` + m.Out + `"; type = "derivation"; }`
+	return `{drvPath = "` + m.Path + `"; name = "` + m.Drv.Name + `"; outPath = "` + m.Out + `"; type = "derivation";}`
 }
 
 // TestP6_Example holds a derivation against what another program has found.
 func TestP6_Example(t *testing.T) {
 	s := `derivation {name = "a"; recipe = "x";}`
-	gives(t, s, `{ drvPath = "jvmx4ilwnrj4dm06a6padj8b775qxv1l-a.drv"; name = "a"; outPath = "yalwdr8576nb616h946k8ddbg2bgwybf-a"; type = "derivation"; }`, 10)
+	gives(t, s, `{drvPath = "jvmx4ilwnrj4dm06a6padj8b775qxv1l-a.drv"; name = "a"; outPath = "yalwdr8576nb616h946k8ddbg2bgwybf-a"; type = "derivation";}`, 10)
 	r, _, _ := eval.Text(s, 99)
 	if len(r.Made) != 1 || base.Hex(r.Made[0].Sum[:]) != "eb985d4a696439323eca9ab04d92a363a28097c10a4abedf93af62a80796218d" {
 		t.Errorf("Made = %v", r.Made)
@@ -72,7 +72,7 @@ func TestP6_OneDerivation(t *testing.T) {
 	gives(t, "("+s+").outPath", `"`+a.Out+`"`, 7)
 	gives(t, `"${`+s+`}"`, `"`+a.Out+`"`, 8)
 	gives(t, "toString ("+s+")", `"`+a.Out+`"`, 10)
-	gives(t, "attrNames ("+s+")", `[ "drvPath" "name" "outPath" "type" ]`, 12)
+	gives(t, "attrNames ("+s+")", `["drvPath" "name" "outPath" "type"]`, 12)
 	gives(t, s+" == "+s, "true", 17)
 	shows(t, "isList ("+s+")", "false")
 	// What else the set has is not asked.

@@ -463,19 +463,19 @@ func (m *model) show(k *thunk, waits int) {
 		m.tell("<fn>")
 	case mlist:
 		m.tell("[")
-		for _, k := range v {
-			m.tell(" ")
+		for i, k := range v {
+			m.tell(" "[:min(i, 1)])
 			m.show(k, waits)
 		}
-		m.tell(" ]")
+		m.tell("]")
 	case mset:
 		m.tell("{")
-		for _, name := range sorted(v) {
-			m.tell(" " + name + " = ")
+		for i, name := range sorted(v) {
+			m.tell(" "[:min(i, 1)] + name + " = ")
 			m.show(v[name], waits)
 			m.tell(";")
 		}
-		m.tell(" }")
+		m.tell("}")
 	}
 	if m.told.Len() > 65536 {
 		panic(api.ErrLong)

@@ -109,22 +109,30 @@ func (m *machine) tell(v *value) {
 	case aNull:
 		m.write("null")
 	case aList:
-		m.write("[ ")
-		for _, p := range v.list {
+		m.write("[")
+		for i, p := range v.list {
+			m.between(i)
 			m.show(p)
-			m.write(" ")
 		}
 		m.write("]")
 	case aSet:
-		m.write("{ ")
-		for _, name := range namesOf(v.set) {
+		m.write("{")
+		for i, name := range namesOf(v.set) {
+			m.between(i)
 			m.write(name + " = ")
 			m.show(v.set[name])
-			m.write("; ")
+			m.write(";")
 		}
 		m.write("}")
 	case aFunction:
 		m.write("<fn>")
+	}
+}
+
+// between tells the blank ahead of a part, but ahead of the first there is none.
+func (m *machine) between(place int) {
+	if place > 0 {
+		m.write(" ")
 	}
 }
 
