@@ -64,22 +64,23 @@ type scene struct {
 	was     state
 	call    func(d *sector.Device, j *journal.Journal) api.Errno
 	now     state
-	anew    bool // the journal itself isn't told of the call
+	anew    bool   // the journal itself isn't told of the call
+	number  uint64 // of what stands on the device ahead of the journal; 0: nothing does
 }
 
 // appending: a scene of an Append.
 func appending(sectors int, was state, p string) scene {
-	return scene{sectors, was, func(_ *sector.Device, j *journal.Journal) api.Errno { return j.Append([]byte(p)) }, was.with(p), false}
+	return scene{sectors, was, func(_ *sector.Device, j *journal.Journal) api.Errno { return j.Append([]byte(p)) }, was.with(p), false, 0}
 }
 
 // resetting: a scene of a Reset.
 func resetting(sectors int, was state, p string) scene {
-	return scene{sectors, was, func(_ *sector.Device, j *journal.Journal) api.Errno { return j.Reset([]byte(p)) }, state{base: p}, false}
+	return scene{sectors, was, func(_ *sector.Device, j *journal.Journal) api.Errno { return j.Reset([]byte(p)) }, state{base: p}, false, 0}
 }
 
 // formatting: a scene of a Format.
 func formatting(sectors int, was state) scene {
-	return scene{sectors, was, func(d *sector.Device, _ *journal.Journal) api.Errno { return journal.Format(d) }, state{}, true}
+	return scene{sectors, was, func(d *sector.Device, _ *journal.Journal) api.Errno { return journal.Format(d) }, state{}, true, 0}
 }
 
 // scenes: records at all places of a sector and over several, bases, and Formats.
@@ -103,7 +104,12 @@ func scenes() []scene {
 // ahead: a device with a scene's journal, and that.
 func (s scene) ahead(t *testing.T) (*sector.Device, *journal.Journal) {
 	t.Helper()
-	d, j := fresh(t, s.sectors)
+	d := made(t, s.sectors)
+	if s.number > 0 {
+		d = numbered(t, s.sectors, ahead(s.number), nil)
+	}
+	is(t, "Format", journal.Format(d), api.OK)
+	j := opened(t, d)
 	resets(t, j, s.was.base)
 	appends(t, j, s.was.records...)
 	tells(t, j, s.was)
@@ -165,37 +171,43 @@ func goesOn(t *testing.T, d *sector.Device, j *journal.Journal, now state) {
 // TestP3_AllFalls: wherever the power goes off in a call, and whatever is done then of what was on its way, the call is done, or not, whole; all goes on, with the journal that met it or with one that is opened.
 func TestP3_AllFalls(t *testing.T) {
 	for _, s := range scenes() {
-		met := map[string]int{}
-		for n := 1; ; n++ {
+		allFalls(t, s)
+	}
+}
+
+// allFalls: the power goes off in each operation of a scene's call.
+func allFalls(t *testing.T, s scene) {
+	t.Helper()
+	met := map[string]int{}
+	for n := 1; ; n++ {
+		d, j := s.ahead(t)
+		if cut(t, d, j, s, n) {
+			j = opened(t, d)
+			tells(t, j, s.now)
+			goesOn(t, d, j, s.now)
+			break
+		}
+		met["cut"]++
+		for k, f := range fallsOf(d.Way()) {
 			d, j := s.ahead(t)
-			if cut(t, d, j, s, n) {
+			cut(t, d, j, s, n)
+			either(t, j, s.was, s.now)
+			restarts(t, d, f)
+			if k%2 == 0 || s.anew {
 				j = opened(t, d)
-				tells(t, j, s.now)
-				goesOn(t, d, j, s.now)
-				break
 			}
-			met["cut"]++
-			for k, f := range fallsOf(d.Way()) {
-				d, j := s.ahead(t)
-				cut(t, d, j, s, n)
-				either(t, j, s.was, s.now)
-				restarts(t, d, f)
-				if k%2 == 0 || s.anew {
-					j = opened(t, d)
-				}
-				got := either(t, j, s.was, s.now)
-				if got.is(s.was) {
-					met["not done"]++
-				} else {
-					met["done"]++
-				}
-				goesOn(t, d, j, got)
+			got := either(t, j, s.was, s.now)
+			if got.is(s.was) {
+				met["not done"]++
+			} else {
+				met["done"]++
 			}
+			goesOn(t, d, j, got)
 		}
-		// An empty journal that is made an empty one is the same done or not.
-		if met["cut"] < 2 || met["not done"] == 0 || met["done"] == 0 && !s.was.is(s.now) {
-			t.Fatalf("a call with %q behind it met only %v", short(s.now), met)
-		}
+	}
+	// An empty journal that is made an empty one is the same done or not.
+	if met["cut"] < 2 || met["not done"] == 0 || met["done"] == 0 && !s.was.is(s.now) {
+		t.Fatalf("a call with %q behind it met only %v", short(s.now), met)
 	}
 }
 

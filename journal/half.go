@@ -10,20 +10,24 @@ import (
 // ahead is how many sectors stand ahead of the halves: one of each half, with a number.
 const ahead = 2
 
-// newest: which half counts, and the number of its sector ahead; 0: neither has one.
-func newest(d *sector.Device) (int, uint64, api.Errno) {
-	half, number := 1, uint64(0)
+// newest: which half counts, and the number of its sector ahead; false: neither has one.
+func newest(d *sector.Device) (half int, number uint64, there bool, e api.Errno) {
 	for i := range ahead {
 		l, e := d.Read(i)
 		if e != api.OK {
-			return 0, 0, e
+			return 0, 0, false, e
 		}
 		n := numberOf(l)
-		if _, ok := unpack(l, n); ok && n > number {
-			half, number = i, n
+		if _, ok := unpack(l, n); ok && (!there || later(n, number)) {
+			half, number, there = i, n, true
 		}
 	}
-	return half, number, api.OK
+	return half, number, there, api.OK
+}
+
+// clean: the sector ahead of a half has no number; not durable yet.
+func clean(d *sector.Device, half int) api.Errno {
+	return d.Write(half, make([]byte, api.Sector))
 }
 
 // point: the sector ahead of a half has that number; not durable yet.

@@ -50,6 +50,11 @@ func numberOf(l []byte) uint64 {
 	return read(l[lengthLen : lengthLen+numberLen])
 }
 
+// later: does a number stand behind another one? Behind the greatest comes 0: what stands on a device ahead of a Format may have any number, so none is the last one, and of two that are far apart either may be the later one.
+func later(number, other uint64) bool {
+	return int64(number-other) > 0
+}
+
 // sum: the digest of a piece, of its length and its number, too.
 func sum(front, p []byte) []byte {
 	h := hash.New()
