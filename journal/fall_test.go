@@ -12,52 +12,6 @@ import (
 	"staddle/sector"
 )
 
-// fall is one way in which the power goes off and on.
-type fall struct {
-	keep      []bool
-	torn, cut int
-}
-
-// cuts: where a write is torn: at the ends of the parts of a head, and anywhere.
-var cuts = []int{0, 1, 3, 4, 5, 11, 12, 13, 31, 32, 33, 64, 100, 200, 255}
-
-// sets: which of n writes are kept: all sets of few, some of many.
-func sets(n int) [][]bool {
-	var l [][]bool
-	dice := samples.Dice(n)
-	for k := range min(1<<min(n, 20), 20+2*n) {
-		keep := make([]bool, n)
-		for i := range keep {
-			switch {
-			case n <= 4:
-				keep[i] = k>>i&1 == 1
-			case k < n:
-				keep[i] = i == k
-			case k < 2*n:
-				keep[i] = i != k-n
-			case k < 2*n+2:
-				keep[i] = k == 2*n
-			default:
-				keep[i] = dice.Roll(2) == 0
-			}
-		}
-		l = append(l, keep)
-	}
-	return l
-}
-
-// falls of n writes that are on their way: any are done, and any one torn besides.
-func fallsOf(n int) []fall {
-	var l []fall
-	for k, keep := range sets(n) {
-		l = append(l, fall{keep, -1, 0})
-		for torn := range n {
-			l = append(l, fall{keep, torn, cuts[(k+torn)%len(cuts)]}, fall{keep, torn, cuts[(k*7+torn*3+5)%len(cuts)]})
-		}
-	}
-	return l
-}
-
 // scene is a journal, a call that may be cut, and what the journal has behind it.
 type scene struct {
 	sectors int
@@ -130,9 +84,9 @@ func cut(t *testing.T, d *sector.Device, j *journal.Journal, s scene, n int) boo
 }
 
 // restarts lets the power go on again.
-func restarts(t *testing.T, d *sector.Device, f fall) {
+func restarts(t *testing.T, d *sector.Device, f samples.Fall) {
 	t.Helper()
-	is(t, "Restart", d.Restart(f.keep, f.torn, f.cut), api.OK)
+	is(t, "Restart", d.Restart(f.Keep, f.Torn, f.Cut), api.OK)
 }
 
 // either fails where a journal tells neither of two states; the one that it tells.
@@ -188,7 +142,7 @@ func allFalls(t *testing.T, s scene) {
 			break
 		}
 		met["cut"]++
-		for k, f := range fallsOf(d.Way()) {
+		for k, f := range samples.Falls(d.Way()) {
 			d, j := s.ahead(t)
 			cut(t, d, j, s, n)
 			either(t, j, s.was, s.now)
@@ -226,7 +180,7 @@ func TestP15_1_FormatCut(t *testing.T) {
 			if e == api.OK {
 				break
 			}
-			for _, f := range fallsOf(d.Way()) {
+			for _, f := range samples.Falls(d.Way()) {
 				d, _ := started()
 				restarts(t, d, f)
 				if j, e := journal.Open(d); e == api.OK {
@@ -250,7 +204,7 @@ func TestP3_FallUponFall(t *testing.T) {
 			if cut(t, d, j, first, n) {
 				break
 			}
-			for _, f := range fallsOf(d.Way()) {
+			for _, f := range samples.Falls(d.Way()) {
 				for _, p := range []string{"", many(20), many(290)} {
 					for kind := range 2 {
 						secondFall(t, first, n, f, func(now state) scene {
@@ -267,7 +221,7 @@ func TestP3_FallUponFall(t *testing.T) {
 }
 
 // secondFall: behind the fall f of the first call a second one is cut, at each of its operations; and then it is done.
-func secondFall(t *testing.T, first scene, n int, f fall, second func(now state) scene) {
+func secondFall(t *testing.T, first scene, n int, f samples.Fall, second func(now state) scene) {
 	t.Helper()
 	for m := 1; ; m++ {
 		d, j := first.ahead(t)
@@ -282,7 +236,7 @@ func secondFall(t *testing.T, first scene, n int, f fall, second func(now state)
 			tells(t, opened(t, d), s.now)
 			return
 		}
-		way := fallsOf(d.Way())
+		way := samples.Falls(d.Way())
 		restarts(t, d, way[(n*5+m*3)%len(way)])
 		j = opened(t, d)
 		now = either(t, j, now, s.now)
@@ -324,12 +278,12 @@ func TestP3_ForeignRecord(t *testing.T) {
 			if cut(t, d, j, s, op) {
 				break
 			}
-			for _, keep := range sets(d.Way()) {
+			for _, keep := range samples.Sets(d.Way()) {
 				trapped := func() (*sector.Device, *journal.Journal, state) {
 					d, j := fresh(t, sectors)
 					appends(t, j, "ahead")
 					cut(t, d, j, s, op)
-					restarts(t, d, fall{keep, -1, 0})
+					restarts(t, d, samples.Fall{Keep: keep, Torn: -1, Cut: 0})
 					j = opened(t, d)
 					return d, j, either(t, j, s.was, s.now)
 				}
@@ -355,10 +309,10 @@ func trappedAgain(t *testing.T, trapped func() (*sector.Device, *journal.Journal
 		if cut(t, d, j, s, op) {
 			return
 		}
-		for _, keep := range sets(d.Way()) {
+		for _, keep := range samples.Sets(d.Way()) {
 			d, j, _ := trapped()
 			cut(t, d, j, s, op)
-			restarts(t, d, fall{keep, -1, 0})
+			restarts(t, d, samples.Fall{Keep: keep, Torn: -1, Cut: 0})
 			either(t, opened(t, d), now, s.now)
 		}
 	}
@@ -376,7 +330,7 @@ func TestP3_TornNumbers(t *testing.T) {
 					now = s.now
 					break
 				}
-				restarts(t, d, fall{nil, 0, torn})
+				restarts(t, d, samples.Fall{Keep: nil, Torn: 0, Cut: torn})
 				if torn%3 > 0 {
 					j = opened(t, d)
 				}
@@ -399,10 +353,10 @@ func TestP3_ForeignBase(t *testing.T) {
 			if cut(t, d, j, s, op) {
 				break
 			}
-			for _, keep := range sets(d.Way()) {
+			for _, keep := range samples.Sets(d.Way()) {
 				d, j := fresh(t, sectors)
 				cut(t, d, j, s, op)
-				restarts(t, d, fall{keep, -1, 0})
+				restarts(t, d, samples.Fall{Keep: keep, Torn: -1, Cut: 0})
 				j = opened(t, d)
 				resets(t, j, short)
 				tells(t, opened(t, d), state{base: short})

@@ -8,6 +8,7 @@ import (
 	"staddle/api"
 	"staddle/hash"
 	"staddle/journal"
+	"staddle/samples"
 	"staddle/sector"
 )
 
@@ -149,11 +150,11 @@ func TestP3_TornOverAnything(t *testing.T) {
 				if cut(t, d, j, s, op) {
 					break
 				}
-				for _, keep := range sets(d.Way()) {
+				for _, keep := range samples.Sets(d.Way()) {
 					for i := range keep {
 						d, j := trapped()
 						cut(t, d, j, s, op)
-						restarts(t, d, fall{keep, i, torn})
+						restarts(t, d, samples.Fall{Keep: keep, Torn: i, Cut: torn})
 						j = opened(t, d)
 						goesOn(t, d, j, either(t, j, was, s.now))
 					}
