@@ -1,4 +1,4 @@
-// Package samples makes trees, and falls of the power, for the tests of other packages. The program itself doesn't use it.
+// Package samples makes trees, stores, and falls of the power, for the tests of other packages. The program itself doesn't use it.
 package samples
 
 import (
