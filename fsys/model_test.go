@@ -112,11 +112,8 @@ func (x *pair) event(dice *samples.Dice) {
 // fall: the power goes off and on.
 func (x *pair) fall(dice *samples.Dice) {
 	x.Helper()
-	keep := make([]bool, dice.Roll(x.d.Way()+2))
-	for i := range keep {
-		keep[i] = dice.Roll(3) > 0
-	}
-	is(x.T, "Restart", x.d.Restart(keep, dice.Roll(x.d.Way()+2)-1, dice.Roll(api.Sector+1)), api.OK)
+	fall := dice.Fall(x.d.Way())
+	is(x.T, "Restart", x.d.Restart(fall.Keep, fall.Torn, fall.Cut), api.OK)
 	x.dead = true
 }
 

@@ -537,11 +537,8 @@ func (x *pair) done(what string, done int, e api.Errno, states []model, want api
 
 // fall: the power goes off and on.
 func (x *pair) fall() {
-	keep := make([]bool, x.dice.Roll(x.d.Way()+2))
-	for i := range keep {
-		keep[i] = x.dice.Roll(3) > 0
-	}
-	is(x.T, "Restart", x.d.Restart(keep, x.dice.Roll(x.d.Way()+2)-1, x.dice.Roll(api.Sector+1)), api.OK)
+	fall := x.dice.Fall(x.d.Way())
+	is(x.T, "Restart", x.d.Restart(fall.Keep, fall.Torn, fall.Cut), api.OK)
 	x.dead = true
 }
 

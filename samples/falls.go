@@ -1,5 +1,7 @@
 package samples
 
+import "staddle/api"
+
 // Fall is one way in which the power goes off and on: what a device's Restart is told.
 type Fall struct {
 	Keep []bool
@@ -45,4 +47,13 @@ func Falls(n int) []Fall {
 		}
 	}
 	return l
+}
+
+// Fall: any fall of n writes that are on their way.
+func (d *Dice) Fall(n int) Fall {
+	keep := make([]bool, d.Roll(n+2))
+	for i := range keep {
+		keep[i] = d.Roll(3) > 0
+	}
+	return Fall{keep, d.Roll(n+2) - 1, d.Roll(api.Sector + 1)}
 }
